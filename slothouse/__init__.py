@@ -1,0 +1,1 @@
+"""Arrival slots when an airport takes fewer flights than planned."""
