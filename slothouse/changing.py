@@ -1,14 +1,22 @@
 """The calls by which a carrier puts its own flights in another order."""
 
 from slothouse.holdings import NO_PLACE
-from slothouse.holdings import all_places, carrier_cost, flights_of, may_have, slot_at
+from slothouse.holdings import all_places, carrier_cost, flights_of, may_have, slot_at, take_place
 from slothouse.refusals import CANCELLED_OR_WITHOUT_SLOT, DO_NOT_FIT, MAY_NOT_HAVE, NOT_GIVEN_OUT, NOT_THERE
 
 
-def change_places(first, second):
+def may_change(house, first, second):
+    return may_have(first, slot_at(house, second.place)) and may_have(second, slot_at(house, first.place))
+
+
+def change_places(house, first, second):
     place = first.place
-    first.place = second.place
-    second.place = place
+    take_place(house, first, second.place)
+    take_place(house, second, place)
+
+
+def two_of_one_carrier(first, second):
+    return first.carrier == second.carrier and first.number != second.number
 
 
 def swap(house, one, other):
@@ -19,12 +27,12 @@ def swap(house, one, other):
     # A cancelled flight has no slot either.
     if first.place == NO_PLACE or second.place == NO_PLACE:
         return [CANCELLED_OR_WITHOUT_SLOT]
-    if first.carrier != second.carrier or one == other:
+    if not two_of_one_carrier(first, second):
         return [DO_NOT_FIT]
-    if not may_have(first, slot_at(house, second.place)) or not may_have(second, slot_at(house, first.place)):
+    if not may_change(house, first, second):
         return [MAY_NOT_HAVE]
     before = carrier_cost(house, first.carrier)
-    change_places(first, second)
+    change_places(house, first, second)
     return [0, before, carrier_cost(house, first.carrier)]
 
 

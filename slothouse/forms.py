@@ -9,38 +9,60 @@ RATION = 5
 COMPRESS = 6
 SWAP = 7
 BEST = 8
+TRADE = 9
+RELEASE = 10
+SLOT = 11
+TABLE = 12
+CARRIER = 13
+TOTAL = 14
+QUEUE = 15
+RIVAL = 16
+OPEN = 17
 
 LAST_TIME = 52595999
 MOST_SLOTS = 120
 MOST_FLIGHTS = 60
+MOST_IN_A_ROW = 60
 
-IDS = (0, 999999)
-CARRIERS = (0, 675)
-WEIGHTS = (1, 1000)
-GAPS = (1, 1440)
-YES_OR_NO = (0, 1)
+ID_RANGE = (0, 999999)
+CARRIER_RANGE = (0, 675)
+WEIGHT_RANGE = (1, 1000)
+GAP_RANGE = (1, 1440)
+YES_RANGE = (0, 1)
+
+
+def has_row(call):
+    return call == QUEUE or call == RIVAL
 
 
 def ranges_of(call):
     times = (0, LAST_TIME)
     if call == SLOTS:
-        return [times, GAPS, (1, MOST_SLOTS)]
+        return [times, GAP_RANGE, (1, MOST_SLOTS)]
     if call == FLIGHT:
-        return [IDS, CARRIERS, times, WEIGHTS]
+        return [ID_RANGE, CARRIER_RANGE, times, WEIGHT_RANGE]
     if call == EXEMPT:
-        return [IDS, YES_OR_NO]
+        return [ID_RANGE, YES_RANGE]
     if call == READY:
-        return [IDS, times]
-    if call == CANCEL:
-        return [IDS]
-    if call == RATION or call == COMPRESS:
-        return []
+        return [ID_RANGE, times]
+    if call == CANCEL or call == SLOT:
+        return [ID_RANGE]
     if call == SWAP:
-        return [IDS, IDS]
-    if call == BEST:
-        return [CARRIERS]
+        return [ID_RANGE, ID_RANGE]
+    if call == TRADE:
+        return [ID_RANGE, ID_RANGE, ID_RANGE, ID_RANGE]
+    if call == BEST or call == CARRIER:
+        return [CARRIER_RANGE]
+    if call == RELEASE:
+        return [(1, MOST_SLOTS)]
+    if call in (RATION, COMPRESS, TABLE, TOTAL, OPEN):
+        return []
     # How many numbers belong to such a call can't be told, so nothing behind it could be read.
     raise KeyError(call)
+
+
+def row_range_of(call):
+    return ID_RANGE if call == QUEUE else (1, MOST_SLOTS)
 
 
 def all_in_range(numbers, ranges):
@@ -48,3 +70,9 @@ def all_in_range(numbers, ranges):
         if number < bounds[0] or number > bounds[1]:
             return False
     return True
+
+
+def fits(call, numbers):
+    if has_row(call):
+        return len(numbers) <= MOST_IN_A_ROW and all_in_range(numbers, [row_range_of(call)] * len(numbers))
+    return all_in_range(numbers, ranges_of(call))

@@ -1,39 +1,46 @@
 """The calls that give slots out and pass them on."""
 
 from slothouse.holdings import NOBODY, NO_PLACE
-from slothouse.holdings import all_places, first_place_from, held_places, slot_at
-from slothouse.holdings import lateness, living_flights, may_have
+from slothouse.holdings import all_places, first_place_from, holders, living_flights, may_have
+from slothouse.holdings import slot_at, take_place, told_lateness
 from slothouse.refusals import NOT_GIVEN_OUT, NO_SLOT_FOR_IT
+
+
+# The places are told and not taken yet, as a refusal must change nothing; None if a flight finds none.
+def places_in_turn(house, flights):
+    free = all_places(house)
+    places = []
+    for flight in flights:
+        place = first_place_from(house, flight.ready, free)
+        if place == NO_PLACE:
+            return None
+        free.remove(place)
+        places.append(place)
+    return places
 
 
 def ration_order(flight):
     return (0 if flight.exempt else 1, flight.planned, flight.number)
 
 
-def give_out(house, taken):
+def give_out(house, flights, places):
     for slot in house.slots:
         slot.owner = NOBODY
-    for number, place in taken.items():
-        flight = house.flights[number]
-        slot = slot_at(house, place)
-        slot.owner = flight.carrier
-        flight.place = NO_PLACE if flight.cancelled else place
+    for flight, place in zip(flights, places):
+        take_place(house, flight, place)
+        if flight.cancelled:
+            # Its carrier owns the slot all the same.
+            flight.place = NO_PLACE
     house.given_out = True
 
 
 def ration(house):
-    free = all_places(house)
-    # Kept beside the house until every flight has found one, as a refusal must change nothing.
-    taken = {}
-    for flight in sorted(house.flights.values(), key=ration_order):
-        place = first_place_from(house, flight.ready, free)
-        if place == NO_PLACE:
-            return [NO_SLOT_FOR_IT]
-        free.remove(place)
-        taken[flight.number] = place
-    give_out(house, taken)
-    late = [lateness(house, flight) for flight in living_flights(house)]
-    return [0, sum(late), max(late, default=0)]
+    flights = sorted(house.flights.values(), key=ration_order)
+    places = places_in_turn(house, flights)
+    if places is None:
+        return [NO_SLOT_FOR_IT]
+    give_out(house, flights, places)
+    return [0] + told_lateness(house, living_flights(house))
 
 
 def place_of(flight):
@@ -51,8 +58,7 @@ def pass_on(house, flight, place):
     slot = slot_at(house, place)
     left = slot_at(house, flight.place)
     left.owner = slot.owner
-    slot.owner = flight.carrier
-    flight.place = place
+    take_place(house, flight, place)
 
 
 def compress(house):
@@ -61,7 +67,7 @@ def compress(house):
     count = 0
     moves = []
     for place in all_places(house):
-        flight = None if place in held_places(house) else comer(house, place)
+        flight = None if place in holders(house) else comer(house, place)
         if flight is not None:
             count += 1
             moves.extend([flight.number, flight.place, place])

@@ -1,6 +1,6 @@
-"""What a house holds, and what can be read off it."""
+"""What a house holds, what can be read off it, and how a flight takes a slot."""
 
-# Below every carrier, so that no carrier is ever taken for nobody.
+# One below the lowest carrier, so that an owner and 1 together is 0 for nobody alone.
 NOBODY = -1
 # Places begin at 1.
 NO_PLACE = 0
@@ -53,17 +53,21 @@ def flights_of(house, carrier):
 
 
 # Which flight has a slot is kept with the flight alone, so that the two can't come to differ.
-def held_places(house):
+def holders(house):
     held = {}
     for flight in house.flights.values():
-        held[flight.place] = True
+        if flight.place != NO_PLACE:
+            held[flight.place] = flight.number
     return held
 
 
-def open_places(house, owners):
-    held = held_places(house)
-    unheld = [place for place in all_places(house) if place not in held]
-    return [place for place in unheld if slot_at(house, place).owner in owners]
+def open_places(house):
+    held = holders(house)
+    return [place for place in all_places(house) if place not in held]
+
+
+def open_places_of(house, owners):
+    return [place for place in open_places(house) if slot_at(house, place).owner in owners]
 
 
 def first_place_from(house, time, places):
@@ -73,10 +77,25 @@ def first_place_from(house, time, places):
     return NO_PLACE
 
 
+# A slot that a flight has is always its carrier's.
+def take_place(house, flight, place):
+    flight.place = place
+    slot = slot_at(house, place)
+    slot.owner = flight.carrier
+
+
 def lateness(house, flight):
     if flight.place == NO_PLACE:
         return 0
     return slot_at(house, flight.place).time - flight.planned
+
+
+def sum_and_greatest(late):
+    return [sum(late), max(late, default=0)]
+
+
+def told_lateness(house, flights):
+    return sum_and_greatest([lateness(house, flight) for flight in flights])
 
 
 def carrier_cost(house, carrier):

@@ -2,7 +2,7 @@
 
 from slothouse.forms import LAST_TIME, MOST_FLIGHTS, MOST_SLOTS
 from slothouse.holdings import NOBODY, NO_PLACE, Flight, Slot
-from slothouse.holdings import first_place_from, open_places, slot_at, told_slot
+from slothouse.holdings import first_place_from, open_places_of, slot_at, take_place, told_slot
 from slothouse.refusals import CANCELLED_OR_WITHOUT_SLOT, FULL, NOT_THERE, NO_SLOT_FOR_IT
 from slothouse.refusals import THERE_ALREADY, WRONG_TIME
 
@@ -19,12 +19,6 @@ def add_slots(house, first_time, gap, how_many):
     return [0, len(house.slots)]
 
 
-def take_place(house, flight, place):
-    flight.place = place
-    slot = slot_at(house, place)
-    slot.owner = flight.carrier
-
-
 def add_flight(house, number, carrier, planned, weight):
     if number in house.flights:
         return [THERE_ALREADY]
@@ -32,7 +26,7 @@ def add_flight(house, number, carrier, planned, weight):
         return [FULL]
     flight = Flight(number, carrier, planned, weight)
     if house.given_out:
-        place = first_place_from(house, flight.ready, open_places(house, [NOBODY]))
+        place = first_place_from(house, flight.ready, open_places_of(house, [NOBODY]))
         if place == NO_PLACE:
             return [NO_SLOT_FOR_IT]
         take_place(house, flight, place)
@@ -57,7 +51,7 @@ def set_ready(house, number, time):
     if time < flight.planned:
         return [WRONG_TIME]
     if flight.place != NO_PLACE and slot_at(house, flight.place).time < time:
-        place = first_place_from(house, time, open_places(house, [NOBODY, flight.carrier]))
+        place = first_place_from(house, time, open_places_of(house, [NOBODY, flight.carrier]))
         if place == NO_PLACE:
             return [NO_SLOT_FOR_IT]
         take_place(house, flight, place)

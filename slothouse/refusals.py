@@ -8,5 +8,9 @@ WRONG_TIME = -6
 NO_SLOT_FOR_IT = -7
 FULL = -8
 CANCELLED_OR_WITHOUT_SLOT = -9
+# The same number, for a slot and not for a flight.
+NOT_OPEN = -9
 DO_NOT_FIT = -10
 MAY_NOT_HAVE = -11
+SOMEBODY_LOSES = -12
+NOT_ALL = -13

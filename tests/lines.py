@@ -38,6 +38,39 @@ def best(carrier):
     return [8, carrier]
 
 
+def trade(a, b, c, d):
+    return [9, a, b, c, d]
+
+
+def release(place):
+    return [10, place]
+
+
+def slot(number):
+    return [11, number]
+
+
+TABLE = [12]
+
+
+def carrier(number):
+    return [13, number]
+
+
+TOTAL = [14]
+
+
+def queue(*ids):
+    return [15, len(ids), *ids]
+
+
+def rival(*places):
+    return [16, len(places), *places]
+
+
+OPEN = [17]
+
+
 def joined(calls):
     return [number for call in calls for number in call]
 
@@ -60,3 +93,18 @@ def ask(*calls):
 def last(*calls):
     """The answer of a line's last call."""
     return ask(*calls)[-1]
+
+
+LOOK = [TABLE, TOTAL, OPEN, *map(slot, range(12)), *map(carrier, range(12))]
+
+
+class AsItWas:
+    """For a test case: what a call answers that must leave the house as it was."""
+
+    def as_it_was(self, told, begin, call):
+        got = ask(*begin, *LOOK, call, *LOOK)[len(begin):]
+        self.assertEqual(got[len(LOOK)], told)
+        self.assertEqual(got[:len(LOOK)], got[len(LOOK) + 1:])
+
+    def refused(self, number, begin, call):
+        self.as_it_was([number], begin, call)

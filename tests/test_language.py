@@ -86,6 +86,48 @@ class Language(unittest.TestCase):
                     self.assertNotIn("*", [alias.name for alias in node.names])
                     self.assertIn(node, tree.body)
 
+    def test_each_name_comes_from_the_file_that_defines_it(self):
+        defined = {}
+        for path, text, tree in self.each():
+            defined[f"slothouse.{path.stem}"] = [
+                node.targets[0].id if isinstance(node, ast.Assign) else node.name
+                for node in tree.body if isinstance(node, (ast.FunctionDef, ast.ClassDef, ast.Assign))
+            ]
+        for path, text, tree in self.each():
+            for node in tree.body:
+                if isinstance(node, ast.ImportFrom):
+                    self.assertEqual([alias.name for alias in node.names if alias.name not in defined[node.module]], [])
+                    self.assertEqual([alias.name for alias in node.names if alias.asname is not None], [])
+
+    def test_no_two_files_draw_from_one_another(self):
+        drawn = {}
+        for path, text, tree in self.each():
+            drawn[f"slothouse.{path.stem}"] = {node.module for node in tree.body if isinstance(node, ast.ImportFrom)}
+        done = set()
+        while len(done) < len(drawn):
+            free = [name for name in drawn if name not in done and drawn[name] <= done]
+            self.assertNotEqual(free, [])
+            done.update(free)
+
+    def test_what_is_drawn_is_used(self):
+        for path, text, tree in self.each():
+            drawn = [alias.name for node in tree.body if isinstance(node, ast.ImportFrom) for alias in node.names]
+            used = {node.id for node in ast.walk(tree) if isinstance(node, ast.Name)}
+            self.assertEqual([name for name in drawn if name not in used], [])
+
+    def test_locals_are_not_called_like_what_stands_at_the_top(self):
+        for path, text, tree in self.each():
+            top = [alias.name for node in tree.body if isinstance(node, ast.ImportFrom) for alias in node.names]
+            top += [node.name for node in tree.body if isinstance(node, (ast.FunctionDef, ast.ClassDef))]
+            for function in tree.body:
+                if isinstance(function, ast.FunctionDef):
+                    inner = {node.arg for node in ast.walk(function) if isinstance(node, ast.arg)}
+                    inner |= {
+                        node.id for node in ast.walk(function)
+                        if isinstance(node, ast.Name) and isinstance(node.ctx, ast.Store)
+                    }
+                    self.assertEqual(sorted(inner & set(top)), [])
+
     def test_statements_and_expressions(self):
         for path, text, tree in self.each():
             for node in ast.walk(tree):
